@@ -7,6 +7,7 @@ def value(reading, vector):
     """Return the VALUE of a READING at a VECTOR."""
     total = whole(0)
     for many, number in zip(reading, vector):
+        # Sums of great numbers are slow, and most products may be 0.
         if many != 0 and number[0] != 0:
             total = plus(total, fraction(many * number[0], number[1]))
     return total

@@ -111,12 +111,9 @@ def fraction_in(text):
     num = integer_in(top)
     if slash == "":
         return None if num is None else whole(num)
-    den = integer_in(bottom)
+    one = (num, integer_in(bottom))
     # A den of 1 is not shown, so no text has it.
-    if num is None or den is None or den == 1:
-        return None
-    one = (num, den)
-    return one if is_fraction(one) else None
+    return one if is_fraction(one) and one[1] != 1 else None
 
 
 def integer_in(word):
