@@ -11,6 +11,9 @@ from heldthrough.books import keeps, value
 from heldthrough.forms import are_fractions, is_fraction, is_tuple_of
 from heldthrough.fractions import added, fraction, multiple, plus, sign_of, times, vector_of, whole
 
+GREAT = 1000000000000
+SHORT = 1000000
+
 
 class Board:
     """A line of integers for each inner slack or unknown, and behind these one for the goal.
@@ -75,17 +78,88 @@ def lowered(line):
 
 def solved(rows, goal):
     """Return a POINT at which a goal is greatest, or that it is endless, or that there is no POINT, with the proof."""
+    taken = likely_rows(rows, goal)
+    while True:
+        found = pivoted([rows[index] for index in taken], goal)
+        left = [index for index in range(len(rows)) if index not in taken and not is_kept(rows[index], found)]
+        if left == []:
+            return with_rows(found, taken, len(rows))
+        taken = sorted(taken + left)
+
+
+def is_kept(row, found):
+    """Tell whether what was found over other rows is right over one row more as well."""
+    if found[0] == "at":
+        return keeps(row, found[2])
+    return found[0] == "none" or (keeps(row, found[1]) and keeps(level_row(row), found[2]))
+
+
+def level_row(row):
+    """Return the row that each WAY of a row keeps."""
+    return (row[0], row[1], 0)
+
+
+def with_rows(found, taken, many):
+    """Return what was found over the taken ones of so many rows, with MULTIPLIERS for all of them."""
+    if found[0] == "endless":
+        return found
+    shares = {index: share for index, share in zip(taken, found[-1])}
+    return found[:-1] + (tuple([shares[index] if index in shares else whole(0) for index in range(many)]),)
+
+
+def likely_rows(rows, goal):
+    """Return the ascending list of the indexes of the rows that are likely to matter.
+
+    Pivots of great numbers are slow. So for these short ones are pivoted first, which are
+    nearly in the same proportions; each row that doesn't matter for these is left out, till it is missed.
+    """
+    numbers = [number for row in rows for number in row[1]] + [row[2] for row in rows] + list(goal)
+    if all([abs(number) <= GREAT for number in numbers]):
+        return list(range(len(rows)))
+    board = Board(short_rows(rows), short(goal))
+    barred = settle(board)
+    if barred is None:
+        endless_column(board)
+    matter = board.outer if barred is None else board.outer + [board.inner[barred]]
+    return [index for index, row in enumerate(rows) if row[0] == "=" or index in matter]
+
+
+def short_rows(rows):
+    """Return the list of rows of short numbers, nearly in the same proportions, all bounds being multiplied alike."""
+    tops = [max([abs(number) for number in row[1]] + [1]) for row in rows]
+    bounds = short([shortened(row[2], top) for row, top in zip(rows, tops)])
+    return [(row[0], short(row[1]), bound) for row, bound in zip(rows, bounds)]
+
+
+def short(numbers):
+    """Return a list or tuple of integers as a list of short ones, nearly in the same proportions."""
+    top = max([abs(number) for number in numbers] + [1])
+    return [shortened(number, top) for number in numbers]
+
+
+def shortened(number, top):
+    """Return an integer multiplied and divided so that top becomes short; opposite ones stay opposite."""
+    size = abs(number) * SHORT // top
+    return size if number > 0 else -size
+
+
+def pivoted(rows, goal):
+    """Return what solved tells, by pivots of all rows."""
     board = Board(rows, goal)
-    at = line_of_no_way(board)
-    if at is None:
-        at = line_too_low(board)
-    if at is not None:
-        return ("none", proof_of(board, at))
+    barred = settle(board)
+    if barred is not None:
+        return ("none", proof_of(board, barred))
     column = endless_column(board)
     if column is not None:
         return ("endless", point_of(board), way_of(board, column))
     last = board.lines[-1]
     return ("at", fraction(last[-2], last[-1]), point_of(board), shares_of(board, last, last[-1]))
+
+
+def settle(board):
+    """Go to a POINT; return a line that bars it, None if there is none."""
+    barred = line_of_no_way(board)
+    return line_too_low(board) if barred is None else barred
 
 
 def line_of_no_way(board):
@@ -98,10 +172,23 @@ def line_of_no_way(board):
             elif board.lines[at][-2] != 0:
                 return at
     for column, one in enumerate(list(board.outer)):
-        limits = [at for at in limit_lines(board) if board.lines[at][column] != 0]
-        if board.is_unknown(one) and limits:
-            board.exchange(limits[0], column)
+        if board.is_unknown(one):
+            at = line_to_leave(board, column)
+            if at is not None:
+                board.exchange(at, column)
     return None
+
+
+def line_to_leave(board, column):
+    """Return a line whose slack can be made outer for the unknown of a column, None if there is none."""
+    way = 1 if board.lines[-1][column] < 0 else -1
+    # Where this can be, no slack falls below 0, and the goal doesn't fall.
+    for turn in (way, -way):
+        at = first_limit(board, column, turn)
+        if at is not None:
+            return at
+    limits = [at for at in limit_lines(board) if board.lines[at][column] != 0]
+    return limits[0] if limits else None
 
 
 def first_column(board, at):
@@ -144,7 +231,7 @@ def line_too_low(board):
         if column is None:
             return at
         # Slacks that are not below 0 stay so: the low ones get fewer, and the least one is the same till it is up.
-        first = first_limit(board, column)
+        first = first_limit(board, column, 1)
         if first is None or is_ahead(board, column, at, first):
             first = at
         board.exchange(first, column)
@@ -159,18 +246,21 @@ def endless_column(board):
         column = rising_column(board, board.lines[-1])
         if column is None:
             return None
-        at = first_limit(board, column)
+        at = first_limit(board, column, 1)
         if at is None:
             return column
         board.exchange(at, column)
 
 
-def first_limit(board, column):
-    """Return the line whose slack, not below 0, is 0 first if a column's slack grows, None if there is none."""
+def first_limit(board, column, way):
+    """Return the line whose slack, not below 0, is 0 first if what is outer at a column goes one way, or None.
+
+    The way is 1 if it grows, -1 if it falls.
+    """
     best = None
     for at in limit_lines(board):
         line = board.lines[at]
-        if line[column] > 0 and line[-2] >= 0 and (best is None or is_ahead(board, column, at, best)):
+        if line[column] * way > 0 and line[-2] >= 0 and (best is None or is_ahead(board, column, at, best)):
             best = at
     return best
 
@@ -178,7 +268,7 @@ def first_limit(board, column):
 def is_ahead(board, column, one, other):
     """Tell whether the one line's slack is 0 ahead of the other's; of those at once the least is ahead."""
     mine, yours = board.lines[one], board.lines[other]
-    # A slack that comes up to 0 has both its bound and its number below 0.
+    # A slack that comes up to 0 has its bound below 0; one that is 0 first by a fall has its number below 0.
     early, late = abs(mine[-2] * yours[column]), abs(yours[-2] * mine[column])
     return early < late or (early == late and board.inner[one] < board.inner[other])
 
@@ -249,8 +339,7 @@ def is_endless(rows, goal, point, way):
     """Tell whether two values are a POINT, and a WAY at which the goal has a value above 0."""
     if not is_point(rows, goal, point):
         return False
-    level = [(sign, numbers, 0) for sign, numbers, bound in rows]
-    return is_point(level, goal, way) and sign_of(value(goal, way)) > 0
+    return is_point([level_row(row) for row in rows], goal, way) and sign_of(value(goal, way)) > 0
 
 
 def is_at(rows, goal, thing):

@@ -131,3 +131,32 @@ def made_history(draw, many):
             history.append(deed)
             stands.append(fresh)
     return book, tuple(history), stands
+
+
+def made_rules(draw, many, size=2, most=7):
+    """Return a tuple of RULES that some STAND keeps: limits, equations, and limits that are met exactly."""
+    point, full = [draw.randint(-size, size) for _ in range(many)], draw.choice((0.4, 0.7, 1))
+    rules = []
+    for _ in range(draw.randint(0, most)):
+        reading = tuple(draw.randint(-size, size) if draw.random() < full else 0 for _ in range(many))
+        value, kind = sum(one * other for one, other in zip(reading, point)), draw.random()
+        if kind < 0.15:
+            rules.append(("=", reading, value))
+        elif kind < 0.9:
+            rules.append(("<=", reading, value + draw.choice((0, 0, 1, 2, 5))))
+        else:
+            rules += [("<=", reading, value), ("<=", tuple(-number for number in reading), -value)]
+    return tuple(rules)
+
+
+def made_ruled_book(draw, many=None, way=None):
+    """Return a BOOK of any FRAME that has GOOD STANDS."""
+    frame = made_frame(draw, many, way)
+    return (frame, made_rules(draw, len(frame[0])))
+
+
+def boxed(book, size):
+    """Return a BOOK with limits behind its RULES that keep each cell from -size to size."""
+    many = len(book[0][0])
+    limits = [("<=", tuple(sign * (k == place) for k in range(many)), size) for place in range(many) for sign in (1, -1)]
+    return (book[0], book[1] + tuple(limits))

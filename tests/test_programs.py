@@ -3,69 +3,11 @@
 import copy
 import random
 import unittest
-from fractions import Fraction
 
-from heldthrough.programs import Board, is_solved, limit_lines, line_of_no_way, line_too_low, solved
-from tests.makers import told
+from heldthrough.programs import Board, is_solved, likely_rows, limit_lines, line_of_no_way, line_too_low, pivoted, solved
 from tests.timed import TimedCase
-from tests.values import ANY_VALUES
-
-
-def is_fraction_by_words(thing):
-    """Tell whether a value is a FRACTION."""
-    if type(thing) is not tuple or len(thing) != 2 or not all(type(number) is int for number in thing):
-        return False
-    return thing[1] > 0 and (Fraction(thing[0], thing[1]).numerator, Fraction(thing[0], thing[1]).denominator) == thing
-
-
-def fractions_by_words(thing, many):
-    """Return the numbers of a tuple of so many FRACTIONS, None for what is none."""
-    if type(thing) is not tuple or len(thing) != many or not all(is_fraction_by_words(one) for one in thing):
-        return None
-    return [told(one) for one in thing]
-
-
-def dot(numbers, others):
-    """Return the sum of the products."""
-    return sum((number * other for number, other in zip(numbers, others)), Fraction(0))
-
-
-def is_point_by_words(rows, point, level=1):
-    """Tell whether numbers are a POINT of the rows; a WAY, if level is 0."""
-    for sign, numbers, bound in rows:
-        found = dot(numbers, point)
-        if found > bound * level or (sign == "=" and found != bound * level):
-            return False
-    return True
-
-
-def given_by_words(rows, many, thing):
-    """Return what MULTIPLIERS GIVE as a list of numbers, the bound behind; None for what is no MULTIPLIERS."""
-    shares = fractions_by_words(thing, len(rows))
-    if shares is None or any(share < 0 and row[0] == "<=" for share, row in zip(shares, rows)):
-        return None
-    return [dot(shares, [row[1][k] for row in rows]) for k in range(many)] + [dot(shares, [row[2] for row in rows])]
-
-
-def is_solved_by_words(rows, goal, thing):
-    """Tell whether a value is one of the three, as the document describes them."""
-    many = len(goal)
-    if type(thing) is not tuple or not thing or type(thing[0]) is not str:
-        return False
-    if thing[0] == "none" and len(thing) == 2:
-        given = given_by_words(rows, many, thing[1])
-        return given is not None and given[:-1] == [0] * many and given[-1] < 0
-    if thing[0] == "endless" and len(thing) == 3:
-        point, way = fractions_by_words(thing[1], many), fractions_by_words(thing[2], many)
-        if point is None or way is None or not is_point_by_words(rows, point) or not is_point_by_words(rows, way, 0):
-            return False
-        return dot(goal, way) > 0
-    if thing[0] == "at" and len(thing) == 4:
-        point, given = fractions_by_words(thing[2], many), given_by_words(rows, many, thing[3])
-        if not is_fraction_by_words(thing[1]) or point is None or given is None or not is_point_by_words(rows, point):
-            return False
-        return dot(goal, point) == told(thing[1]) and given == [*goal, told(thing[1])]
-    return False
+from tests.values import ANY_VALUES, others
+from tests.words import dot, is_solved_by_words
 
 
 def made_rows(draw, many=None, size=None):
@@ -198,6 +140,54 @@ class Solved(TimedCase):
         self.assertTrue(is_solved_by_words(rows, (great,) * 8, solved(rows, (great,) * 8)))
 
 
+    def test_short_numbers_that_mislead(self):
+        """Rows that differ in their last figures alone are alike when they are shortened; what was left out is missed."""
+        great, missed = 10 ** 39, 0
+        for seed in range(300):
+            draw = random.Random(seed)
+            unknowns = draw.randint(1, 4)
+            rows = []
+            for _ in range(draw.randint(1, 4)):
+                row, bound = [draw.randint(-3, 3) * great for _ in range(unknowns)], draw.randint(-1, 3) * great
+                for _ in range(draw.randint(1, 3)):
+                    near = tuple(number + draw.randint(-2, 2) for number in row)
+                    rows.append((draw.choice(("<=", "<=", "<=", "=")) if draw.random() < 0.2 else "<=", near, bound + draw.randint(-2, 2)))
+            goal = tuple(draw.randint(-3, 3) * great + draw.randint(-1, 1) for _ in range(unknowns))
+            found = solved(tuple(rows), goal)
+            self.assertTrue(is_solved_by_words(rows, goal, found), (rows, goal, found))
+            short = pivoted([rows[index] for index in likely_rows(rows, goal)], goal)
+            missed += short[0] != found[0] or short[1] != found[1]
+        self.assertGreater(missed, 20)
+
+    def test_great_bounds_alone(self):
+        """Bounds may be much greater than numbers, as they are where STANDS of great dens are looked at."""
+        for seed in range(200):
+            draw = random.Random(seed)
+            rows, goal = made_rows(draw, size=9)
+            scale = 10 ** draw.choice((20, 100, 800))
+            great = tuple((sign, numbers, bound * scale + draw.randint(0, 1)) for sign, numbers, bound in rows)
+            self.assertTrue(is_solved_by_words(great, goal, solved(great, goal)))
+
+    def test_at_the_bounds_of_branches(self):
+        """48 rows over 16 unknowns, in three parts, dense, with numbers of forty digits."""
+        draw, great = random.Random(5), 10 ** 40 - 1
+        rows = tuple(("<=", tuple(draw.randint(-great, great) for _ in range(16)), draw.randint(0, great)) for _ in range(48))
+        found = self.quick(solved, rows, rows[0][1])
+        self.assertTrue(is_solved_by_words(rows, rows[0][1], found))
+
+    def test_some_hundred_rows(self):
+        for size in (9, 10 ** 9):
+            for seed in range(3):
+                draw = random.Random(seed)
+                point = [draw.randint(-size, size) for _ in range(12)]
+                rows = []
+                for _ in range(300):
+                    numbers = tuple(draw.randint(-size, size) for _ in point)
+                    rows.append(("<=", numbers, int(dot(numbers, point)) + draw.randint(0, size)))
+                goal = tuple(draw.randint(-size, size) for _ in point)
+                self.assertTrue(is_solved_by_words(rows, goal, self.quick(solved, tuple(rows), goal)))
+
+
 class WatchedBoard(Board):
     """A Board that counts the slacks that fall below 0."""
 
@@ -282,22 +272,6 @@ class Judge(unittest.TestCase):
                 self.judged(rows, goal, other, found)
                 let_by += found
         self.assertGreater(let_by, 20)
-
-
-def others(thing):
-    """Return the list of values that are a value with one item otherwise, at any depth."""
-    found = [None, True, False, 0, 1, "at", (), [], {}]
-    if isinstance(thing, int):
-        found += [thing + 1, thing - 1, -thing, 2 * thing, bool(thing), str(thing), (thing,), (thing, 1), [thing]]
-    elif isinstance(thing, str):
-        found += ["none", "endless", "", thing + " ", thing.upper()]
-    else:
-        found += [list(thing), thing[:-1], thing[1:], thing[::-1], thing + thing[-1:], thing + ((0, 1),), thing + (0,), (thing,), (0, 1), (-1, 1), (1, 2), (2, 4)]
-        if len(thing) == 2 and isinstance(thing[0], int):
-            found += [(2 * thing[0], 2 * thing[1]), (-thing[0], -thing[1]), (-thing[0], thing[1])]
-        for index, item in enumerate(thing):
-            found += [thing[:index] + (other,) + thing[index + 1:] for other in others(item)]
-    return found
 
 
 if __name__ == "__main__":

@@ -23,7 +23,23 @@ ANY_VALUES = [
     FRAME, list(FRAME), (FRAME, ()), [FRAME, ()], (FRAME, []), (list(FRAME), ()), (FRAME, (None,)), (FRAME, None),
     (("first", ((0, 1),) * 3),), [("first", ((0, 1),) * 3)], (("first", [(0, 1)] * 3),), (("first",),), (["first"],), ((),),
     (([],),), (((),),), (({},),), ((None,),), ((True,),), (("edit", 0, ((0, 1),) * 3),),
-    ("none", ()), ("at", (0, 1), (), ()), ("endless", (), ()), ("none",), ("at",), ("endless",),
+    ("none", ()), ("at", (0, 1), (), ()), ("endless", (), ()), ("none",), ("at",), ("endless",), ("held", ()), ("out", ()), ("held",), ("out", None),
     nest(20), [nest(19)], {"a": nest(18)}, (None,) * 3000, ("a",) * 3000, [[]] * 1500,
     HeldError(), Clash((0,)), NoText([1]), (Clash(()),), (HeldError(), HeldError()), (FRAME, (HeldError(),)),
 ]
+
+
+def others(thing):
+    """Return the list of values that are a value with one item otherwise, at any depth."""
+    found = [None, True, False, 0, 1, "at", (), [], {}]
+    if isinstance(thing, int):
+        found += [thing + 1, thing - 1, -thing, 2 * thing, bool(thing), str(thing), (thing,), (thing, 1), [thing]]
+    elif isinstance(thing, str):
+        found += ["none", "endless", "held", "out", "", thing + " ", thing.upper()]
+    else:
+        found += [list(thing), thing[:-1], thing[1:], thing[::-1], thing + thing[-1:], thing + ((0, 1),), thing + (0,), (thing,), (0, 1), (-1, 1), (1, 2), (2, 4)]
+        if len(thing) == 2 and isinstance(thing[0], int):
+            found += [(2 * thing[0], 2 * thing[1]), (-thing[0], -thing[1]), (-thing[0], thing[1])]
+        for index, item in enumerate(thing):
+            found += [thing[:index] + (other,) + thing[index + 1:] for other in others(item)]
+    return found
