@@ -1,0 +1,96 @@
+"""Which STANDS are HELD, and the papers that prove it, or that they are not."""
+
+from heldthrough.books import is_good
+from heldthrough.directions import exact_rules
+from heldthrough.forms import is_tuple_of, is_vector
+from heldthrough.fractions import added, fraction, is_less, less, multiple, sign_of, vector_of
+from heldthrough.limits import is_multipliers, limit_by, worth
+from heldthrough.programs import solved
+from heldthrough.safe import few_outsides, is_nought_in_some
+from heldthrough.spaces import cleared, has, sum_of_products
+
+
+class Slope:
+    """What VECTORS in a SPACE, added to a STAND, can make of it, by the RULES of a BOOK."""
+
+    def __init__(self, book, space):
+        self.source = book
+        # With no member there would be no unknown to solve for.
+        self.members = space if space else ((0,) * len(book[0][0]),)
+        self.numbers = [tuple([sum_of_products(rule[1], row) for row in self.members]) for rule in book[1]]
+
+    def rows_at(self, stand):
+        """Return the list of rows whose POINTS are the shares of the members, times the common den of the STAND."""
+        *numbers, den = cleared((*stand, (1, 1)))
+        found = []
+        for (sign, reading, bound), along in zip(self.source[1], self.numbers):
+            found.append((sign, along, bound * den - sum_of_products(reading, numbers)))
+        return found
+
+    def led(self, stand):
+        """Return ("held", a GOOD STAND that differs by a VECTOR in the SPACE), or ("out", MULTIPLIERS that bar it)."""
+        found = solved(tuple(self.rows_at(stand)), (0,) * len(self.members))
+        if found[0] == "none":
+            return ("out", found[1])
+        den = cleared((*stand, (1, 1)))[-1]
+        for share, row in zip(found[2], self.members):
+            stand = added(stand, multiple(fraction(share[0], share[1] * den), vector_of(row)))
+        return ("held", stand)
+
+    def depth(self, stand, exact):
+        """Return 1 if an INNER STAND differs by a VECTOR in the SPACE, else 0 if a GOOD one does, else -1."""
+        room = [0 if index in exact else 1 for index in range(len(self.numbers))]
+        rows = [(sign, along + (one,), bound) for (sign, along, bound), one in zip(self.rows_at(stand), room)]
+        goal = (0,) * len(self.members) + (1,)
+        found = solved((*rows, ("<=", goal, 1)), goal)
+        return -1 if found[0] == "none" else sign_of(found[1])
+
+
+def place(book, stand):
+    """Return whether a STAND is inside, on the rim, or out."""
+    spaces, exact = few_outsides(book), exact_rules(book)
+    depth = min([Slope(book, space).depth(stand, exact) for space in spaces])
+    if depth < 0:
+        return "out"
+    return "inside" if depth > 0 else "rim"
+
+
+def is_held(book, spaces, stand):
+    """Tell whether for each of some SPACES some GOOD STAND differs from a STAND by a VECTOR in it."""
+    return all([Slope(book, space).led(stand)[0] == "held" for space in spaces])
+
+
+def held_paper(book, stand):
+    """Return the proof that a STAND is HELD, or that it is not."""
+    stands = []
+    for space in few_outsides(book):
+        word, paper = Slope(book, space).led(stand)
+        if word == "out":
+            return (word, paper)
+        stands.append(paper)
+    return ("held", tuple(stands))
+
+
+def is_held_paper(book, stand, thing):
+    """Tell whether a value is what held_paper may return."""
+    if not is_tuple_of(thing, 2):
+        return False
+    if thing[0] == "held":
+        return are_near(book, stand, thing[1])
+    return thing[0] == "out" and is_barred(book, stand, thing[1])
+
+
+def are_near(book, stand, thing):
+    """Tell whether a value is a tuple of GOOD STANDS, one for each least OUTSIDE, by which the STAND differs."""
+    spaces = few_outsides(book)
+    if not is_tuple_of(thing, len(spaces)) or not all([is_vector(book[0], one) for one in thing]):
+        return False
+    return all([is_good(book, one) and has(space, less(one, stand)) for space, one in zip(spaces, thing)])
+
+
+def is_barred(book, stand, thing):
+    """Tell whether a value is MULTIPLIERS of a SAFE LIMIT that a STAND doesn't keep."""
+    if not is_multipliers(book, thing):
+        return False
+    vector, bound = limit_by(book, thing)
+    return is_less(bound, worth(vector, stand)) and is_nought_in_some(few_outsides(book), vector)
