@@ -32,7 +32,7 @@ def common_by_words(frame, one, other):
 
 def is_pair_by_words(frame, rows, pair):
     """Tell whether a value is two VECTORS in a span that AGREE, and their COMMON PART, which is not in it, all WHOLE."""
-    if any(den != 1 for vector in pair for num, den in vector):
+    if any(den != 1 for vector in pair for num, den in vector) or [len(vector) for vector in pair] != [len(frame[0])] * 3:
         return False
     one, other, common = pair
     agree, found = common_by_words(frame, one, other)

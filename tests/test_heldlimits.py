@@ -7,7 +7,7 @@ from heldthrough.books import with_rule
 from heldthrough.directions import inner
 from heldthrough.errors import NoStand, TooMany
 from heldthrough.fractions import vector_of
-from heldthrough.heldlimits import greatest_held, holds, is_greatest_held, kept_rules, survives
+from heldthrough.heldlimits import Hull, greatest_held, holds, is_greatest_held, kept_rules, survives
 from heldthrough.limits import follows, no_stand
 from tests.held_words import is_greatest_held_by_words, looked_at
 from tests.makers import boxed, made_ruled_book, told
@@ -115,6 +115,20 @@ class Holds(TimedCase):
                            (boxed(BOOK, 5), (0, 1, 2, 3, 4, 5, 6)), (boxed(BOOK, 6), (1, 2, 3, 4, 5, 6))):
             self.assertEqual(kept_rules(book), kept, book)
             self.assertIs(survives(book), len(kept) == len(book[1]))
+
+    def test_one_hull_for_many_readings(self):
+        """What was found for one READING bars nothing that is HELD when another one is asked for."""
+        hull = Hull((PLANE, (("<=", (1, 1), 10), ("<=", (0, -1), 0))))
+        self.assertEqual([hull.most((1, 0))[:2], hull.most((-1, 0))[0], hull.most((0, -1))[:2], hull.most((1, -1))[:2]], [("at", (10, 1)), "endless", ("at", (0, 1)), ("at", (10, 1))])
+        for seed in range(60):
+            draw = random.Random(seed)
+            book = boxed(made_ruled_book(draw, draw.randint(1, 4)), draw.randint(2, 5))
+            if no_stand(book) is None:
+                hull = Hull(book)
+                for _ in range(6):
+                    reading = tuple(draw.randint(-2, 2) for _ in book[0][0])
+                    found, alone = hull.most(reading), greatest_held(book, reading)
+                    self.assertEqual(found[:2] if found[0] == "at" else found[:1], alone[:2] if alone[0] == "at" else alone[:1])
 
     def test_by_chance(self):
         """RULES that survive, and RULES that a merge breaks: told by [6] as well, by programs of three GOOD STANDS and their MERGE."""

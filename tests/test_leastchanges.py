@@ -135,6 +135,8 @@ class Conformal(TimedCase):
         ):
             self.assertIs(is_conformal(EXCHANGES, vector, thing), found, thing)
             self.assertIs(is_conformal_by_words(EXCHANGES, vector, thing), found, thing)
+        self.assertIs(is_conformal(EXCHANGES, ((1, 1), (-1, 1), (0, 1)), (((1, -1, 0), (1, 1)), ((1, 0, -1), (0, 1)))), False)
+        self.assertIs(is_conformal(EXCHANGES, ((0, 1),) * 3, (((1, 0, -1), (0, 1)),)), False)
 
     def test_no_more_parts_than_members(self):
         square = ((1, 0, 0, -1), (0, 1, 0, -1), (0, 0, 1, -1))

@@ -199,6 +199,9 @@ class Breaking(TimedCase):
             self.assertIs(breaking(book) is None, survive)
             if not survive:
                 self.check(book, breaking(book))
+        corner = (PLANE, rules + (("<=", (1, 1), 6), ("<=", (-1, -1), 0)))
+        mine, yours, both = self.check(corner, breaking(corner))
+        self.assertLess(sum(both), 0)
 
     def test_greatest_value_and_beyond(self):
         """Each VALUE that one merge of group-wise unlike branches has is let by a bound; a lesser bound is broken."""
