@@ -30,13 +30,25 @@ def uncrossed(frame, changes):
     return tuple([(i, j) for i in many for j in many if i <= j and not do_meet(lots[i], lots[j])])
 
 
+def is_part(one, other):
+    """Tell whether all groups of the one LOT are in the other."""
+    return all([index in other for index in one])
+
+
 def families(frame, changes):
     """Return the ascending tuple of all FAMILIES of some LEAST CHANGES."""
-    crossed = crossed_ones(frame, changes)
+    return greatest_lots(crossed_ones(frame, changes))
+
+
+def greatest_lots(near):
+    """Return the ascending tuple of all greatest ascending tuples of indexes, any two of which are near to each other.
+
+    The indexes are the keys of a dict, ascending, to dicts of those that are near, each one to itself as well.
+    """
     found = [()]
-    for index in crossed:
-        found = with_index(crossed, found, index)
-        # FAMILIES of the first ones are never more than those of all, so there is no need to go on.
+    for index in near:
+        found = with_index(near, found, index)
+        # Those of the first indexes are never more than those of all, so there is no need to go on.
         if len(found) > MOST_FAMILIES:
             raise TooMany(MOST_FAMILIES)
     return tuple(sorted(found))

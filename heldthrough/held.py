@@ -32,18 +32,32 @@ class Slope:
         found = solved(tuple(self.rows_at(stand)), (0,) * len(self.members))
         if found[0] == "none":
             return ("out", found[1])
-        den = cleared((*stand, (1, 1)))[-1]
-        for share, row in zip(found[2], self.members):
-            stand = added(stand, multiple(fraction(share[0], share[1] * den), vector_of(row)))
-        return ("held", stand)
+        return ("held", self.moved_by(stand, found[2]))
 
-    def depth(self, stand, exact):
-        """Return 1 if an INNER STAND differs by a VECTOR in the SPACE, else 0 if a GOOD one does, else -1."""
+    def moved_by(self, stand, shares):
+        """Return what comes of a STAND by these shares of the members, which are multiplied as in its rows."""
+        den = cleared((*stand, (1, 1)))[-1]
+        for share, row in zip(shares, self.members):
+            stand = added(stand, multiple(fraction(share[0], share[1] * den), vector_of(row)))
+        return stand
+
+    def deepest(self, stand, exact, most):
+        """Return what solved tells of shares of the members, and of the room, at most so much, of the other RULES."""
         room = [0 if index in exact else 1 for index in range(len(self.numbers))]
         rows = [(sign, along + (one,), bound) for (sign, along, bound), one in zip(self.rows_at(stand), room)]
         goal = (0,) * len(self.members) + (1,)
-        found = solved((*rows, ("<=", goal, 1)), goal)
+        return solved((*rows, ("<=", goal, most)), goal)
+
+    def depth(self, stand, exact):
+        """Return 1 if an INNER STAND differs by a VECTOR in the SPACE, else 0 if a GOOD one does, else -1."""
+        found = self.deepest(stand, exact, 1)
         return -1 if found[0] == "none" else sign_of(found[1])
+
+    def inner_near(self, stand, exact):
+        """Return an INNER STAND that differs by a VECTOR in the SPACE, None if there is none; it has much room."""
+        most = max([abs(bound) for sign, along, bound in self.rows_at(stand)] + [1])
+        found = self.deepest(stand, exact, most)
+        return self.moved_by(stand, found[2]) if found[0] == "at" and sign_of(found[1]) > 0 else None
 
 
 def place(book, stand):

@@ -1,16 +1,12 @@
 """How far branches over one base can come when they are merged, and how one merge breaks a BOOK."""
 
-from heldthrough.books import value
-from heldthrough.directions import directions, exact_rules
-from heldthrough.drift import off_flat, one_merge, room
+from heldthrough.breaks import Bounds, Breaks, history_that_breaks
 from heldthrough.errors import TooMany
-from heldthrough.fractions import added, is_less, less, multiple, over, sign_of, vector_of, whole
+from heldthrough.fractions import added, is_less, less
 from heldthrough.frames import added_places, places_of
-from heldthrough.heldlimits import survives
-from heldthrough.held import Slope
 from heldthrough.limits import check_stand
-from heldthrough.programs import lowered, solved
-from heldthrough.safe import changes_of, pair_apart
+from heldthrough.programs import solved
+from heldthrough.safe import few_outsides
 from heldthrough.sharings import sharings
 
 MOST_SHARINGS = 300
@@ -82,6 +78,11 @@ def farthest(book, reading, k):
     """Return k branches that come to the greatest VALUE of a READING, or how they come to any."""
     check_sharings(book[0], k)
     check_stand(book)
+    return far_branches(book, reading, k, None)
+
+
+def far_branches(book, reading, k, enough):
+    """Return what farthest does; if enough is a FRACTION, the first branches found that come to a VALUE above it."""
     best = None
     for shared in sharings(len(book[0][1]), k):
         branches = Branches(book, k, shared)
@@ -90,6 +91,8 @@ def farthest(book, reading, k):
             return ("endless",) + branches.stands(found[1]) + branches.stands(found[2])
         if best is None or is_less(best[1], found[1]):
             best = ("at", found[1]) + branches.stands(found[2])
+        if enough is not None and is_less(enough, best[1]):
+            break
     return best
 
 
@@ -104,55 +107,6 @@ def check_sharings(frame, k):
 
 def breaking(book):
     """Return a HISTORY of four DEEDS whose merge is not GOOD, None if the BOOK survives."""
-    if survives(book):
-        return None
-    history = off_flat(book)
-    return over_limit(book) if history is None else history
-
-
-def over_limit(book):
-    """Return a HISTORY whose merge goes beyond a bound, of a BOOK that doesn't survive, but keeps its equations."""
-    changes = changes_of(book)
-    for index, rule in enumerate(book[1]):
-        pair = pair_apart(book[0], changes, rule[1])
-        stand = None if pair is None else stand_on(book, index)
-        if stand is not None:
-            return pushed(book, stand, [unit_rise(rule[1], one) for one in pair])
-    return None
-
-
-def stand_on(book, index):
-    """Return a GOOD STAND that keeps a RULE with its bound, all others with less, but those that can't; or None."""
-    along, exact = Slope(book, directions(book)).numbers, exact_rules(book)
-    rows = []
-    for other, (sign, reading, bound) in enumerate(book[1]):
-        if other == index or other in exact:
-            rows.append(("=", reading + (0,), bound))
-        else:
-            rows.append((sign, reading + (0 if are_twins(along[other], along[index]) else 1,), bound))
-    goal = (0,) * len(book[0][0]) + (1,)
-    found = solved((*rows, ("<=", goal, 1)), goal)
-    return found[2][:-1] if found[0] == "at" and sign_of(found[1]) > 0 else None
-
-
-def are_twins(one, other):
-    """Tell whether WHOLE VECTORS, the latter not 0, differ by a factor above 0: such readings rise and fall as one."""
-    return any([number != 0 for number in one]) and lowered(list(one)) == lowered(list(other))
-
-
-def unit_rise(reading, change):
-    """Return the multiple of a WHOLE VECTOR at which a READING has the VALUE 1."""
-    vector = vector_of(change)
-    return multiple(over(whole(1), value(reading, vector)), vector)
-
-
-def pushed(book, stand, rises):
-    """Return a HISTORY in which two changes, each of which rises by 1, are merged beyond a bound that a STAND has.
-
-    The base is as far ahead of the bound that either change alone stays ahead of it.
-    """
-    back = multiple((-2, 3), added(rises[0], rises[1]))
-    changes = [back, added(back, rises[0]), added(back, rises[1])]
-    share = room(book, stand, changes)
-    base, mine, yours = [added(stand, multiple(share, one)) for one in changes]
-    return one_merge(base, mine, yours)
+    # More FAMILIES than can be looked at are told of, though these are not asked for here.
+    few_outsides(book)
+    return history_that_breaks(book, Breaks(book[0], Bounds(book)))
