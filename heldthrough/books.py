@@ -1,16 +1,18 @@
 """BOOKS: the VALUES of their readings, what keeps their RULES, and the BOOKS that come of them."""
 
-from heldthrough.fractions import fraction, is_at_most, plus, whole
+from math import lcm
+
+from heldthrough.fractions import fraction, is_at_most, whole
 
 
 def value(reading, vector):
     """Return the VALUE of a READING at a VECTOR."""
-    total = whole(0)
-    for many, number in zip(reading, vector):
-        # Sums of great numbers are slow, and most products may be 0.
-        if many != 0 and number[0] != 0:
-            total = plus(total, fraction(many * number[0], number[1]))
-    return total
+    # Long numbers are slow to reduce, so this is done once, and products that are 0 are left out.
+    told = [(many * num, den) for many, (num, den) in zip(reading, vector) if many != 0 and num != 0]
+    common = 1
+    for _, den in told:
+        common = lcm(common, den)
+    return fraction(sum([num * (common // den) for num, den in told]), common)
 
 
 def keeps(rule, stand):

@@ -22,13 +22,13 @@ class Bounds:
     def __init__(self, book):
         self.source = book
         self.flat = directions(book)
-        self.stands = {}
+        self.met = {}
 
     def stand_on(self, index):
         """Return a GOOD STAND that keeps a RULE with its bound, all others with less, as far as can be; or None."""
-        if index not in self.stands:
-            self.stands[index] = stand_on(self.source, index)
-        return self.stands[index]
+        if index not in self.met:
+            self.met[index] = stand_on(self.source, index)
+        return self.met[index]
 
 
 class Breaks:
@@ -56,6 +56,11 @@ class Breaks:
         found = None if self.frame[3] == "strict" else self.off_flat(both, lots)
         indexes = list(range(len(self.bounds.source[1])))
         return self.over_bound(both, lots, indexes) if found is None else found
+
+    def anywhere(self):
+        """Return what breaks the BOOK, None if it survives."""
+        groups = tuple(range(len(self.frame[1])))
+        return self.between(groups, groups)
 
     def off_flat(self, both, lots):
         """Return what breaks an equation of all GOOD STANDS; None if nothing does.
@@ -121,8 +126,7 @@ def partings(both, lots):
 
 def history_that_breaks(book, breaks):
     """Return a HISTORY of four DEEDS whose merge breaks a BOOK, None if none does."""
-    groups = tuple(range(len(book[0][1])))
-    found = breaks.between(groups, groups)
+    found = breaks.anywhere()
     return None if found is None else history_of(book, found)
 
 

@@ -4,8 +4,8 @@ from heldthrough.crossing import do_meet
 from heldthrough.fractions import added, floor_of, fraction, is_less, less, minus, multiple, nought, over, plus, whole
 from heldthrough.frames import moved, part, places_of
 from heldthrough.held import Slope
-from heldthrough.roving import shares_in, sum_by
-from heldthrough.spaces import has, space_of
+from heldthrough.roving import shares_in
+from heldthrough.spaces import has, space_of, sum_by
 from heldthrough.strides import free_places, stride
 from heldthrough.trees import leaf, leaves_of, led_tree, size_of
 
@@ -145,7 +145,7 @@ def begin_by(ground, goal, moves, begin):
     """Return the STAND where to begin if Moves, and lifts, lead from there to a STAND; else None."""
     space = space_of([row for move in moves for row in move.space] + list(ground.lifts), ground.many)
     if begin is None:
-        return Slope(ground.source, space).inner_near(goal, ground.exact)
+        return Slope(ground.source, space).inner_near(goal, ground.exact, ground.flat)
     return begin if has(space, less(goal, begin)) else None
 
 

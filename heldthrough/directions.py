@@ -2,9 +2,12 @@
 
 from heldthrough.books import is_good, value
 from heldthrough.forms import is_vector
-from heldthrough.fractions import added, multiple, whole
+from heldthrough.fractions import added, floor_of, less, minus, multiple, over, sign_of, whole
 from heldthrough.limits import check_stand, greatest, no_stand, some_stand, turned
-from heldthrough.spaces import space_of, upright
+from heldthrough.spaces import common_den, first_place, rounded, space_of, sum_by, sum_of_products, upright
+
+# A den of more bits than this is shortened, where it can be.
+LONG = 133
 
 
 def spread_stands(book):
@@ -42,7 +45,24 @@ def inner(book):
     total = stands[0]
     for stand in stands[1:]:
         total = added(total, stand)
-    return multiple((1, len(stands)), total)
+    middle = multiple((1, len(stands)), total)
+    return nearby(book, middle, stands[0], flat_by(book, stands)) if common_den(middle).bit_length() > LONG else middle
+
+
+def nearby(book, middle, start, space):
+    """Return an INNER STAND near to another one, but of shorter numbers: by these it differs from where to start.
+
+    The CHANGE from there is in a SPACE, which is in the DIRECTIONS.
+    """
+    parts, way = 1, less(middle, start)
+    for sign, reading, bound in book[1]:
+        left = minus(whole(bound), value(reading, middle))
+        if sign_of(left) > 0:
+            # Of each limit about half of what was left still is.
+            wide = sum([abs(sum_of_products(reading, row)) for row in space])
+            parts = max(parts, floor_of(over(whole(2 * wide), left)) + 1)
+    shares = [over(way[first_place(row)], whole(row[first_place(row)])) for row in space]
+    return sum_by(rounded(shares, parts), space, start)
 
 
 def is_inner(book, thing):
@@ -55,8 +75,13 @@ def is_inner(book, thing):
 
 def directions(book):
     """Return the DIRECTIONS of a BOOK."""
+    return flat_by(book, spread_stands(book))
+
+
+def flat_by(book, stands):
+    """Return the DIRECTIONS of a BOOK that has spread STANDS."""
     many = len(book[0][0])
-    readings = [book[1][index][1] for index in exact_rules(book)]
+    readings = [rule[1] for rule in book[1] if is_met_by(rule, stands)]
     return upright(space_of(readings, many), many)
 
 

@@ -147,11 +147,16 @@ def led_on(space, places, numbers):
 
 def drift_steps(book):
     """Return the tuple of SPACES from the DIRECTIONS of a BOOK up to its DRIFT."""
-    frame, steps = book[0], [directions(book)]
+    return tuple(closing_steps(book[0], directions(book)))
+
+
+def closing_steps(frame, space):
+    """Return the list of SPACES from one up to a CLOSED one: each is spanned by the one ahead and its COMMON PARTS."""
+    steps = [space]
     while True:
         fresh = joined(steps[-1], agreeing(frame, steps[-1]), len(frame[0]))
         if fresh == steps[-1]:
-            return tuple(steps)
+            return steps
         steps.append(fresh)
 
 

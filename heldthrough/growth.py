@@ -11,8 +11,7 @@ from heldthrough.directions import inner
 from heldthrough.errors import TooMany
 from heldthrough.fractions import floor_of, is_less, less, minus, nought, over, plus, times, whole
 from heldthrough.programs import solved
-from heldthrough.roving import sum_by
-from heldthrough.spaces import cleared, first_place, has, sum_of_products
+from heldthrough.spaces import cleared, first_place, has, sum_by, sum_of_products
 from heldthrough.strides import MOST_DEEDS
 from heldthrough.trees import fork, leaf
 
@@ -73,7 +72,7 @@ class Growth:
         """Return the list of a LOT and of the LOT of all other groups."""
         return [lot, tuple([index for index in range(len(self.ground.frame[1])) if index not in lot])]
 
-    def spaces(self, lot):
+    def spaces_of(self, lot):
         """Return the list of the SPACES of the DIRECTIONS that TOUCH a LOT alone, and other groups alone."""
         return [self.ground.within_lot(self.ground.flat, one) for one in self.parting(lot)]
 
@@ -87,7 +86,7 @@ class Growth:
             found.append((sprout, rows))
             return many
         both = []
-        for space in self.spaces(sprout.lot):
+        for space in self.spaces_of(sprout.lot):
             both.append({many + at: row for at, row in enumerate(space)})
             many += len(space)
         mine, yours = both
@@ -156,7 +155,7 @@ class Growth:
 
     def rise(self, reading, most, lot):
         """Return how much the VALUE of a READING, at most most at GOOD STANDS, can grow by a merge parted by a LOT."""
-        spaces = [self.ground.flat, *self.spaces(lot)]
+        spaces = [self.ground.flat, *self.spaces_of(lot)]
         rows = []
         for free in ((1, 0, 0), (1, 1, 0), (1, 0, 1)):
             for sign, one, bound in self.rules:
@@ -199,7 +198,7 @@ class Growth:
                 found.append(lot)
         return found
 
-    def tree(self):
+    def grown(self):
         """Return the tree that comes to the share."""
         return tree_of(self.root, [tip[1] for tip in self.tips])
 
@@ -233,4 +232,4 @@ def grown_tree(ground, goal):
         growth.split(best[1], best[2])
     if growth.share != whole(1):
         raise TooMany(MOST_DEEDS)
-    return growth.tree()
+    return growth.grown()

@@ -1,13 +1,13 @@
 """Which STANDS are HELD, and the papers that prove it, or that they are not."""
 
 from heldthrough.books import is_good
-from heldthrough.directions import exact_rules
+from heldthrough.directions import exact_rules, nearby
 from heldthrough.forms import is_tuple_of, is_vector
-from heldthrough.fractions import added, fraction, is_less, less, multiple, sign_of, vector_of
+from heldthrough.fractions import is_less, less, multiple, sign_of
 from heldthrough.limits import is_multipliers, limit_by, worth
 from heldthrough.programs import solved
 from heldthrough.safe import few_outsides, is_nought_in_some
-from heldthrough.spaces import cleared, has, sum_of_products
+from heldthrough.spaces import cleared, common_den, cut, has, sum_by, sum_of_products
 
 
 class Slope:
@@ -15,6 +15,7 @@ class Slope:
 
     def __init__(self, book, space):
         self.source = book
+        self.space = space
         # With no member there would be no unknown to solve for.
         self.members = space if space else ((0,) * len(book[0][0]),)
         self.numbers = [tuple([sum_of_products(rule[1], row) for row in self.members]) for rule in book[1]]
@@ -32,14 +33,11 @@ class Slope:
         found = solved(tuple(self.rows_at(stand)), (0,) * len(self.members))
         if found[0] == "none":
             return ("out", found[1])
-        return ("held", self.moved_by(stand, found[2]))
+        return ("held", self.led_by(stand, found[2]))
 
-    def moved_by(self, stand, shares):
-        """Return what comes of a STAND by these shares of the members, which are multiplied as in its rows."""
-        den = cleared((*stand, (1, 1)))[-1]
-        for share, row in zip(shares, self.members):
-            stand = added(stand, multiple(fraction(share[0], share[1] * den), vector_of(row)))
-        return stand
+    def led_by(self, stand, point):
+        """Return what comes of a STAND by a POINT of its rows."""
+        return sum_by(multiple((1, common_den(stand)), point), self.members, stand)
 
     def deepest(self, stand, exact, most):
         """Return what solved tells of shares of the members, and of the room, at most so much, of the other RULES."""
@@ -53,11 +51,20 @@ class Slope:
         found = self.deepest(stand, exact, 1)
         return -1 if found[0] == "none" else sign_of(found[1])
 
-    def inner_near(self, stand, exact):
-        """Return an INNER STAND that differs by a VECTOR in the SPACE, None if there is none; it has much room."""
+    def inner_near(self, stand, exact, flat):
+        """Return an INNER STAND that differs by a VECTOR in the SPACE, None if there is none; it has much room.
+
+        The exact RULES of the BOOK, and its DIRECTIONS, are known.
+        """
         most = max([abs(bound) for sign, along, bound in self.rows_at(stand)] + [1])
         found = self.deepest(stand, exact, most)
-        return self.moved_by(stand, found[2]) if found[0] == "at" and sign_of(found[1]) > 0 else None
+        if found[0] == "none" or sign_of(found[1]) < 1:
+            return None
+        middle = self.led_by(stand, found[2])
+        rows = self.rows_at(stand)
+        level = tuple([("=", rows[index][1], rows[index][2]) for index in exact])
+        start = self.led_by(stand, solved(level, (0,) * len(self.members))[2])
+        return nearby(self.source, middle, start, cut(self.space, flat, len(stand)))
 
 
 def place(book, stand):

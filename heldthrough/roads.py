@@ -11,10 +11,9 @@ from heldthrough.heldlimits import greatest_held
 from heldthrough.limits import check_stand, greatest
 from heldthrough.onemerge import Branches, come_to, far_branches
 from heldthrough.programs import solved
-from heldthrough.roving import units
 from heldthrough.routes import route
 from heldthrough.sharings import sharings
-from heldthrough.spaces import cleared
+from heldthrough.spaces import cleared, units
 from heldthrough.strides import free_places, steps_to
 from heldthrough.trees import Story
 
@@ -52,7 +51,7 @@ def forked_road(book, stand):
             # Without added cells a branch that touches nothing brings nothing.
             if () in lots and book[0][2] == () or not all([does_fit(book, stand, lot, fits) for lot in lots]):
                 continue
-            found = branches_to(book, stand, Branches(book, k, shared))
+            found = branches_to(stand, Branches(book, k, shared))
             if found is not None:
                 return branched(found[0], found[1])
     return None
@@ -66,7 +65,7 @@ def does_fit(book, stand, lot, known):
     return known[lot]
 
 
-def branches_to(book, stand, branches):
+def branches_to(stand, branches):
     """Return the tuple of a base and of the branches over it that come to a STAND, None if there are none."""
     *numbers, den = cleared((*stand, (1, 1)))
     rows = [(sign, row, bound * den) for sign, row, bound in branches.good_rows()]

@@ -8,8 +8,8 @@ from heldthrough.frames import added_places, places_of
 from heldthrough.growth import grown_tree
 from heldthrough.limits import sides_of
 from heldthrough.programs import solved
-from heldthrough.roving import Ground, shares_in, sum_by
-from heldthrough.spaces import cleared, kept_at, space_of, sum_of_products
+from heldthrough.roving import Ground, shares_in
+from heldthrough.spaces import cleared, kept_at, space_of, sum_by, sum_of_products
 from heldthrough.strides import MOST_DEEDS
 from heldthrough.trees import Story, leaf, size_of
 

@@ -12,7 +12,7 @@ from heldthrough.frames import added_places, places_of, touched
 from heldthrough.held import Slope
 from heldthrough.leastchanges import least_changes
 from heldthrough.programs import solved
-from heldthrough.spaces import cleared, first_place, has, primitive, seen_at, space_of, within
+from heldthrough.spaces import cleared, first_place, has, primitive, seen_at, space_of, units, within
 from heldthrough.strides import free_places
 from heldthrough.trees import fork, led_tree, leaf, stacked
 
@@ -53,9 +53,9 @@ class Ground:
         self.known = [(row, leaf(vector_of(row))) for row in self.flat]
         self.shared = []
         while len(self.known) < len(self.wide):
-            self.share()
+            self.put_common_parts()
 
-    def share(self):
+    def put_common_parts(self):
         """Put the COMMON PARTS of what is known to what is shared, and to what is known where they are new."""
         spanned = self.spanned(self.known)
         ahead = list(self.known)
@@ -117,11 +117,6 @@ class Ground:
         return found
 
 
-def units(places, many):
-    """Return the SPACE of all VECTORS that MOVE only cells at these places."""
-    return tuple([tuple([1 if other == place else 0 for other in range(many)]) for place in places])
-
-
 def shared_pairs(frame, many, space):
     """Return the list of tuples (row, pair): COMMON PARTS of VECTORS in a SPACE, but not in it, and what they are of.
 
@@ -147,13 +142,6 @@ def shares_in(rows, vector):
     *numbers, den = cleared((*vector, (1, 1)))
     lines = [("=", tuple([row[place] for row in rows]), number) for place, number in enumerate(numbers)]
     return multiple((1, den), solved(tuple(lines), (0,) * len(rows))[2])
-
-
-def sum_by(shares, rows, vector):
-    """Return a VECTOR and WHOLE VECTORS, each multiplied by its share, added up."""
-    for share, row in zip(shares, rows):
-        vector = added(vector, multiple(share, vector_of(row)))
-    return vector
 
 
 def tree_in(known, vector):

@@ -7,14 +7,12 @@ the first cell that it MOVES.
 from math import gcd, lcm
 
 from heldthrough.forms import is_integer, is_tuple_of
-from heldthrough.fractions import vector_of
+from heldthrough.fractions import added, floor_of, fraction, multiple, times, vector_of, whole
 
 
 def cleared(vector):
     """Return the WHOLE VECTOR that is the multiple of a VECTOR by the least integer for which there is one."""
-    common = 1
-    for num, den in vector:
-        common = lcm(common, den)
+    common = common_den(vector)
     return tuple([num * (common // den) for num, den in vector])
 
 
@@ -159,3 +157,28 @@ def seen_at(space, places, many):
 def kept_at(numbers, places):
     """Return the WHOLE VECTOR that is as the given one at these places, and 0 in all other cells."""
     return tuple([number if place in places else 0 for place, number in enumerate(numbers)])
+
+
+def units(places, many):
+    """Return the SPACE of all VECTORS that MOVE only cells at these places."""
+    return tuple([tuple([1 if other == place else 0 for other in range(many)]) for place in places])
+
+
+def sum_by(shares, rows, vector):
+    """Return a VECTOR and WHOLE VECTORS, each multiplied by its share, added up."""
+    for share, row in zip(shares, rows):
+        vector = added(vector, multiple(share, vector_of(row)))
+    return vector
+
+
+def rounded(shares, parts):
+    """Return the list of FRACTIONS that are a number of so many parts each, less than one part below others."""
+    return [fraction(floor_of(times(share, whole(parts))), parts) for share in shares]
+
+
+def common_den(vector):
+    """Return the least integer from 1 on by which multiplied a VECTOR is whole."""
+    common = 1
+    for _, den in vector:
+        common = lcm(common, den)
+    return common

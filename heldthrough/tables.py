@@ -126,12 +126,12 @@ def row_frame(scheme):
 def merged_tables(scheme, base, mine, yours):
     """Return the TABLE of the MERGE of three TABLES."""
     frames = [head_frame(scheme)] + [row_frame(scheme)] * len(base[1])
-    parts = [[table[0], *table[1]] for table in (base, mine, yours)]
+    first, second, third = [[table[0], *table[1]] for table in (base, mine, yours)]
     groups, ahead = [], 0
-    for at, frame in enumerate(frames):
-        groups = groups + [ahead + index for index in clashes(frame, *[part[at] for part in parts])]
+    for frame, begin, one, other in zip(frames, first, second, third):
+        groups = groups + [ahead + index for index in clashes(frame, begin, one, other)]
         ahead += len(frame[1])
     if groups:
         raise Clash(tuple(groups))
-    head, *rows = [merged(frame, *[part[at] for part in parts]) for at, frame in enumerate(frames)]
+    head, *rows = [merged(frame, begin, one, other) for frame, begin, one, other in zip(frames, first, second, third)]
     return (head, tuple(rows))
