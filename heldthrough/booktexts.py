@@ -2,7 +2,7 @@
 
 from heldthrough.errors import NoText, Wrong
 from heldthrough.forms import SIGNS, WAYS, is_frame, is_name
-from heldthrough.fractions import fraction_in, integer_in, show_fraction, whole
+from heldthrough.fractions import fraction_in, integer_in, show_fraction, show_integer, whole
 from heldthrough.frames import in_order, moved
 
 
@@ -23,8 +23,8 @@ def rule_words(cells, rule):
     words = ["rule"]
     for number, cell in zip(reading, cells):
         if number != 0:
-            words.extend([str(number), cell])
-    return [*words, sign, str(bound)]
+            words.extend([show_integer(number), cell])
+    return [*words, sign, show_integer(bound)]
 
 
 def read_book(text):

@@ -7,6 +7,8 @@ from heldthrough.forms import is_fraction
 
 FIGURES = "0123456789"
 MOST_FIGURES = 40
+# What has no more bits than this Python shows at once.
+MOST_BITS = 10000
 
 
 def fraction(num, den):
@@ -92,7 +94,17 @@ def vector_of(numbers):
 def show_fraction(one):
     """Return the text of a FRACTION."""
     num, den = one
-    return str(num) if den == 1 else f"{num}/{den}"
+    return show_integer(num) if den == 1 else f"{show_integer(num)}/{show_integer(den)}"
+
+
+def show_integer(number):
+    """Return the text of an integer as Python shows it, also of one that is too long for Python to show at once."""
+    parts, left = [], abs(number)
+    while left.bit_length() > MOST_BITS:
+        left, last = divmod(left, 10 ** 64)
+        parts.append(str(last).zfill(64))
+    sign = "-" if number < 0 else ""
+    return sign + str(left) + "".join(parts[::-1])
 
 
 def read_fraction(text):

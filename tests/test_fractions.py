@@ -107,6 +107,19 @@ class Texts(unittest.TestCase):
         for one in NUMBERS:
             self.assertEqual(read_fraction(show_fraction(one)), one)
 
+    def test_show_long_ones(self):
+        """Python itself shows no more than some thousand figures at once."""
+        draw = random.Random(3)
+        for size in (3000, 3011, 4300, 9999, 20000):
+            figures = "7" + "".join(draw.choice("0000123456789") for _ in range(size - 1))
+            number = 0
+            for begin in range(0, size, 500):
+                number = number * 10 ** len(figures[begin:begin + 500]) + int(figures[begin:begin + 500])
+            self.assertEqual(show_fraction((number, 1)), figures)
+            self.assertEqual(show_fraction((-number, 1)), "-" + figures)
+            self.assertEqual(show_fraction((-1, number)), "-1/" + figures)
+            self.assertEqual(show_fraction((10 ** (size - 1), 1)), "1" + "0" * (size - 1))
+
     def test_forty_figures(self):
         nines, more = "9" * 40, "9" * 41
         self.assertEqual(read_fraction(nines), (10 ** 40 - 1, 1))
