@@ -8,6 +8,11 @@ def told(one):
     return Fraction(one[0], one[1])
 
 
+def numbers_of(vector):
+    """Return the numbers of a VECTOR as Python's own."""
+    return [told(number) for number in vector]
+
+
 def shown(number):
     """Return Python's own Fraction as a FRACTION."""
     return (Fraction(number).numerator, Fraction(number).denominator)
@@ -160,3 +165,10 @@ def boxed(book, size):
     many = len(book[0][0])
     limits = [("<=", tuple(sign * (k == place) for k in range(many)), size) for place in range(many) for sign in (1, -1)]
     return (book[0], book[1] + tuple(limits))
+
+
+def made_great_rules(draw, cells, size, equal, many=16):
+    """Return a tuple of so many RULES of any numbers up to size, some first ones of them equations; that 0 keeps all."""
+    readings = [tuple(draw.randint(-size, size) for _ in cells) for _ in range(equal)]
+    limits = [("<=", tuple(draw.randint(-size, size) for _ in cells), draw.randint(1, size)) for _ in range(many - equal)]
+    return tuple(("=", reading, 0) for reading in readings) + tuple(limits)

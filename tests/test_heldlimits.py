@@ -10,7 +10,7 @@ from heldthrough.fractions import vector_of
 from heldthrough.heldlimits import Hull, greatest_held, holds, is_greatest_held, kept_rules, survives
 from heldthrough.limits import follows, no_stand
 from tests.held_words import is_greatest_held_by_words, looked_at
-from tests.makers import boxed, made_ruled_book, told
+from tests.makers import boxed, made_great_rules, made_ruled_book, told
 from tests.merge_words import do_all_merges_keep
 from tests.test_held import BOOK, DRIFTING, EQUAL, LIMITS, LINKED, LOOSE
 from tests.test_limits import NONE
@@ -192,8 +192,7 @@ class Errors(TimedCase):
                     frame = (CELLS, (CELLS[:3], CELLS[3:4], CELLS[4:6]), CELLS[6:], frame[3])
                 if seed % 3 == 2:
                     frame = (CELLS, (CELLS[:4], CELLS[4:]), (), frame[3])
-                equal = tuple(("=", tuple(draw.randint(-size, size) for _ in CELLS), 0) for _ in range(seed // 3))
-                rules = equal + tuple(("<=", tuple(draw.randint(-size, size) for _ in CELLS), draw.randint(1, size)) for _ in range(16 - len(equal)))
+                rules = made_great_rules(draw, CELLS, size, seed // 3)
                 book = (frame, rules)
                 reading = rules[-1][1]
                 found = self.quick(greatest_held, book, reading)

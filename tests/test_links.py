@@ -11,7 +11,7 @@ from heldthrough.heldlimits import holds, survives
 from heldthrough.histories import first_broken, is_history
 from heldthrough.limits import no_stand
 from heldthrough.links import finer_breaks, finer_ones, is_finer, is_least_linking, is_linking, joined, linkings, rule_linkings, takings
-from tests.makers import made_ruled_book
+from tests.makers import made_great_rules, made_ruled_book
 from tests.test_crossing import named, singles
 from tests.test_guarantees import made_run
 from tests.test_limits import NONE
@@ -163,8 +163,7 @@ class Surviving(TimedCase):
             for seed in range(4):
                 draw = random.Random(seed)
                 frame = (CELLS, (CELLS[:2], CELLS[2:4], CELLS[4:5], CELLS[5:7], CELLS[7:]), (), "usual" if seed % 2 else "strict")
-                equal = tuple(("=", tuple(draw.randint(-size, size) for _ in CELLS), 0) for _ in range(seed))
-                rules = equal + tuple(("<=", tuple(draw.randint(-size, size) for _ in CELLS), draw.randint(1, size)) for _ in range(16 - len(equal)))
+                rules = made_great_rules(draw, CELLS, size, seed)
                 found = self.quick(linkings, (frame, rules))
                 if isinstance(found, tuple):
                     self.assertTrue(all(self.quick(is_least_linking, (frame, rules), one) for one in found))

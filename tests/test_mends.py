@@ -12,7 +12,7 @@ from heldthrough.frames import with_way
 from heldthrough.limits import no_stand
 from heldthrough.mends import blame, hands, is_mend, mends, places_of_pieces
 from heldthrough.programs import solved
-from tests.makers import good, made_frame, made_ruled_book, made_stand, merge_by_words, near_stand, told
+from tests.makers import good, made_frame, made_great_rules, made_ruled_book, made_stand, merge_by_words, near_stand, numbers_of, told
 from tests.test_crossing import singles
 from tests.test_limits import NONE
 from tests.test_safe import CELLS
@@ -22,11 +22,6 @@ from tests.words import dot, fractions_by_words
 
 SHEET = read_book("sheet strict\ncells a b c\ngroup a\ngroup b\ngroup c\nrule 1 a 1 b 1 c <= 6\nrule -1 a <= 0\nrule -1 b <= 0\nrule -1 c <= 0")
 MIXED = read_book("sheet usual\ncells x a y b c\ngroup a c\ngroup b\nadded x y\nrule 1 x 1 a <= 3\nrule 1 y 1 b 1 c = 4\nrule -1 x <= 0")
-
-
-def numbers_of(vector):
-    """Return the numbers of a VECTOR as Python's own."""
-    return [told(number) for number in vector]
 
 
 def cells_of_pieces(frame, pieces):
@@ -141,8 +136,7 @@ class Mends(TimedCase):
         for size in (3, 10 ** 40 - 1):
             for seed in range(4):
                 draw = random.Random(seed)
-                equal = tuple(("=", tuple(draw.randint(-size, size) for _ in CELLS), 0) for _ in range(seed))
-                rules = equal + tuple(("<=", tuple(draw.randint(-size, size) for _ in CELLS), draw.randint(1, size)) for _ in range(16 - len(equal)))
+                rules = made_great_rules(draw, CELLS, size, seed)
                 frame = (CELLS, tuple((cell,) for cell in CELLS[:4]), CELLS[4:], "usual") if seed % 2 else singles(CELLS)
                 stand = tuple((draw.randint(-size, size), draw.choice((1, 1, 3))) for _ in CELLS)
                 stand = tuple((num, den) if num % 3 else (num // den, 1) for num, den in stand)

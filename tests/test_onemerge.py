@@ -13,7 +13,7 @@ from heldthrough.histories import first_broken, is_history, stands_of
 from heldthrough.limits import greatest, no_stand
 from heldthrough.onemerge import breaking, come_to, farthest
 from tests.linear import touched_by_words
-from tests.makers import boxed, good, made_ruled_book, merge_by_words, told
+from tests.makers import boxed, good, made_great_rules, made_ruled_book, merge_by_words, numbers_of, told
 from tests.merge_words import do_all_merges_keep, greatest_merge
 from tests.test_held import BOOK, DRIFTING, EQUAL, LIMITS, LINKED, LOOSE
 from tests.test_limits import NONE
@@ -23,11 +23,6 @@ from tests.words import dot
 
 FREE = (PLANE, ())
 TRIPLE = ((("a", "b", "c"), (("a",), ("b",), ("c",)), (), "strict"), (("<=", (1, 1, 1), 6), ("<=", (-1, 0, 0), 0), ("<=", (0, -1, 0), 0), ("<=", (0, 0, -1), 0)))
-
-
-def numbers_of(vector):
-    """Return the numbers of a VECTOR as Python's own."""
-    return [told(number) for number in vector]
 
 
 def are_branches(book, base, stands):
@@ -258,8 +253,7 @@ class Breaking(TimedCase):
             for seed in range(6):
                 draw = random.Random(seed)
                 frame = (CELLS, tuple((cell,) for cell in CELLS), (), "usual" if seed % 2 else "strict")
-                equal = tuple(("=", tuple(draw.randint(-size, size) for _ in CELLS), 0) for _ in range(seed % 3))
-                rules = equal + tuple(("<=", tuple(draw.randint(-size, size) for _ in CELLS), draw.randint(1, size)) for _ in range(16 - len(equal)))
+                rules = made_great_rules(draw, CELLS, size, seed % 3)
                 history = self.quick(breaking, (frame, rules))
                 if not isinstance(history, TooMany):
                     self.check((frame, rules), history)

@@ -17,7 +17,7 @@ from heldthrough.limits import no_stand
 from heldthrough.people import book_of, is_of_people, is_people, new_rights, reach, who_moves
 from heldthrough.spaces import is_space
 from tests.linear import drift_by_words, is_in, null_by_words, rank, space_by_words
-from tests.makers import boxed, good, made_ruled_book, merge_by_words, sides_by_words, told
+from tests.makers import boxed, good, made_great_rules, made_ruled_book, merge_by_words, numbers_of, sides_by_words
 from tests.test_crossing import singles
 from tests.test_guarantees import corner
 from tests.test_limits import NONE
@@ -29,11 +29,6 @@ from tests.words import dot
 SHEET = read_book("sheet strict\ncells a b c\ngroup a\ngroup b\ngroup c\nrule 1 a 1 b 1 c <= 6\nrule -1 a <= 0\nrule -1 b <= 0\nrule -1 c <= 0")
 START = read_vector(SHEET[0], "a 1, b 1, c 1")
 SUM = read_book("sheet usual\ncells a b c d\ngroup a\ngroup b\ngroup c\ngroup d\nrule 1 a 1 b 1 c 1 d = 4\nrule -1 d <= 9")
-
-
-def numbers_of(vector):
-    """Return the numbers of a VECTOR as Python's own."""
-    return [told(number) for number in vector]
 
 
 def units(places, many):
@@ -279,8 +274,7 @@ class Rights(TimedCase):
         for size in (3, 10 ** 40 - 1):
             for seed in range(4):
                 draw = random.Random(seed)
-                equal = tuple(("=", tuple(draw.randint(-size, size) for _ in CELLS), 0) for _ in range(seed))
-                rules = equal + tuple(("<=", tuple(draw.randint(-size, size) for _ in CELLS), draw.randint(1, size)) for _ in range(16 - len(equal)))
+                rules = made_great_rules(draw, CELLS, size, seed)
                 book = (singles(CELLS, "usual" if seed % 2 else "strict"), rules)
                 people = tuple(tuple(sorted(draw.sample(range(8), 4))) for _ in range(8))
                 start = inner(book)

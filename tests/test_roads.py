@@ -17,7 +17,7 @@ from heldthrough.histories import is_history, stands_of
 from heldthrough.limits import greatest, no_stand
 from heldthrough.programs import solved
 from heldthrough.roads import beyond, road
-from tests.makers import boxed, good, made_ruled_book, shown, told
+from tests.makers import boxed, good, made_great_rules, made_ruled_book, numbers_of, shown, told
 from tests.merge_words import places_by_words
 from tests.test_crossing import singles
 from tests.test_held import BOOK, DRIFTING, EQUAL, LIMITS, LOOSE
@@ -30,11 +30,6 @@ from tests.words import dot
 # Cells that differ from the next ones by at most 1: a thin strip along the line where all are equal.
 STRIP = (PLANE, (("<=", (1, -1), 1), ("<=", (-1, 1), 1)))
 ROPE = (singles("abc"), (("<=", (1, -1, 0), 1), ("<=", (-1, 1, 0), 1), ("<=", (0, 1, -1), 1), ("<=", (0, -1, 1), 1)))
-
-
-def numbers_of(vector):
-    """Return the numbers of a VECTOR as Python's own."""
-    return [told(number) for number in vector]
 
 
 def heap(cells, bound=1, way="strict"):
@@ -387,8 +382,7 @@ class Roads(TimedCase):
             for seed in range(6):
                 draw = random.Random(seed)
                 parts = ((CELLS[:3], CELLS[3:5], CELLS[5:7], CELLS[7:]), tuple((cell,) for cell in CELLS))[seed % 2]
-                equal = tuple(("=", tuple(draw.randint(-size, size) for _ in CELLS), 0) for _ in range(seed // 2))
-                rules = equal + tuple(("<=", tuple(draw.randint(-size, size) for _ in CELLS), draw.randint(1, size)) for _ in range(16 - len(equal)))
+                rules = made_great_rules(draw, CELLS, size, seed // 2)
                 book = ((CELLS, parts, (), draw.choice(("usual", "strict"))), rules)
                 try:
                     stand = self.far(draw, book)

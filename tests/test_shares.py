@@ -15,7 +15,7 @@ from heldthrough.limits import no_stand
 from heldthrough.shares import crowd, is_within, rise, shares
 from tests.held_words import changes_by_words
 from tests.linear import do_cross
-from tests.makers import boxed, good, made_ruled_book, made_stand, merge_by_words, shown, told
+from tests.makers import boxed, good, made_great_rules, made_ruled_book, made_stand, merge_by_words, numbers_of, shown, told
 from tests.test_crossing import singles
 from tests.test_guarantees import corner, fresh_stand
 from tests.test_held import LOOSE
@@ -26,11 +26,6 @@ from tests.timed import TimedCase
 from tests.words import dot
 
 SHEET = read_book("sheet strict\ncells a b c\ngroup a\ngroup b\ngroup c\nrule 1 a 1 b 1 c <= 6\nrule -1 a <= 0\nrule -1 b <= 0\nrule -1 c <= 0")
-
-
-def numbers_of(vector):
-    """Return the numbers of a VECTOR as Python's own."""
-    return [told(number) for number in vector]
 
 
 def rise_by_words(frame, reading, numbers):
@@ -199,8 +194,7 @@ class Shares(TimedCase):
         for size in (3, 10 ** 40 - 1):
             for seed in range(4):
                 draw = random.Random(seed)
-                equal = tuple(("=", tuple(draw.randint(-size, size) for _ in CELLS), 0) for _ in range(seed))
-                rules = equal + tuple(("<=", tuple(draw.randint(-size, size) for _ in CELLS), draw.randint(1, size)) for _ in range(16 - len(equal)))
+                rules = made_great_rules(draw, CELLS, size, seed)
                 book = (singles(CELLS, "usual" if seed % 2 else "strict"), rules)
                 self.assertEqual(len(self.quick(shares, book, none, 10 ** 40 - 1)), 16)
                 self.assertIs(self.quick(is_within, book, none, 3, none), True)

@@ -6,7 +6,7 @@ import random
 from heldthrough.errors import Clash
 from heldthrough.forms import is_book, is_vector
 from heldthrough.tables import broken_in, is_scheme, is_table, made_book, made_stand, merged_tables, table_of
-from tests.makers import made_frame, merge_by_words, shown, told
+from tests.makers import made_frame, merge_by_words, numbers_of, shown
 from tests.timed import TimedCase
 from tests.values import ANY_VALUES, others
 from tests.words import dot
@@ -51,11 +51,6 @@ def near_table(draw, scheme, table):
     fresh = made_table(draw, scheme, len(table[1]))
     mix = lambda old, new: tuple(draw.choice((a, a, a, b)) for a, b in zip(old, new))
     return (mix(table[0], fresh[0]), tuple(mix(old, new) for old, new in zip(table[1], fresh[1])))
-
-
-def numbers_of(vector):
-    """Return the numbers of a VECTOR as Python's own."""
-    return [told(number) for number in vector]
 
 
 def broken_by_words(scheme, table):

@@ -14,7 +14,7 @@ from heldthrough.limits import no_stand
 from heldthrough.merges import merged
 from heldthrough.unseen import is_unseen_break, looks_needed, may, may_all, parts_of, trains, unseen_break
 from tests.linear import touched_by_words
-from tests.makers import boxed, good, made_frame, made_ruled_book, made_stand, merge_by_words, near_stand, told
+from tests.makers import boxed, good, made_frame, made_ruled_book, made_stand, merge_by_words, near_stand, numbers_of
 from tests.merge_words import all_kinds, do_all_merges_keep
 from tests.test_crossing import singles
 from tests.test_guarantees import fresh_stand
@@ -27,11 +27,6 @@ from tests.words import dot
 SHEET = read_book("sheet usual\ncells a b c\ngroup a\ngroup b\ngroup c\nrule 1 a 1 b <= 3\nrule 1 c <= 5")
 SUM = read_book("sheet usual\ncells a b c\ngroup a\ngroup b\ngroup c\nrule 1 a 1 b 1 c = 6")
 ADDED = read_book("sheet strict\ncells a x y\ngroup a\nadded x y\nrule 1 a 1 x <= 3\nrule -1 y <= 0")
-
-
-def numbers_of(vector):
-    """Return the numbers of a VECTOR as Python's own."""
-    return [told(number) for number in vector]
 
 
 def lots_of(frame):
