@@ -2,19 +2,16 @@
 
 from heldthrough.books import is_good, value
 from heldthrough.directions import directions, inner
-from heldthrough.drift import lot_with
 from heldthrough.errors import NotInside
+from heldthrough.forks import forked
 from heldthrough.fractions import (added, floor_of, fraction, is_at_most, is_less, less, minus, multiple, over, plus,
                                    whole)
-from heldthrough.held import Slope, place
+from heldthrough.held import place
 from heldthrough.heldlimits import greatest_held
 from heldthrough.limits import check_stand, greatest
-from heldthrough.onemerge import Branches, come_to, far_branches
-from heldthrough.programs import solved
+from heldthrough.onemerge import come_to, far_branches
 from heldthrough.routes import route
-from heldthrough.sharings import sharings
-from heldthrough.spaces import cleared, units
-from heldthrough.strides import free_places, steps_to
+from heldthrough.strides import steps_to
 from heldthrough.trees import Story
 
 MOST_BRANCHES = 6
@@ -43,39 +40,8 @@ def long_road(book, stand):
 
 def forked_road(book, stand):
     """Return a HISTORY of the fewest branches over one base that come to a STAND, None if there is none."""
-    many = len(book[0][1])
-    fits = {}
-    for k in range(2, MOST_BRANCHES + 1 if many <= MOST_GROUPS else 3):
-        for shared in sharings(many, k):
-            lots = [lot_with(shared, branch) for branch in range(k)]
-            # Without added cells a branch that touches nothing brings nothing.
-            if () in lots and book[0][2] == () or not all([does_fit(book, stand, lot, fits) for lot in lots]):
-                continue
-            found = branches_to(stand, Branches(book, k, shared))
-            if found is not None:
-                return branched(found[0], found[1])
-    return None
-
-
-def does_fit(book, stand, lot, known):
-    """Tell whether some GOOD STAND has in the groups of a LOT what a STAND has; what is known of LOTS is kept."""
-    if lot not in known:
-        free = units(free_places(book[0], lot), len(stand))
-        known[lot] = Slope(book, free).led(stand)[0] == "held"
-    return known[lot]
-
-
-def branches_to(stand, branches):
-    """Return the tuple of a base and of the branches over it that come to a STAND, None if there are none."""
-    *numbers, den = cleared((*stand, (1, 1)))
-    rows = [(sign, row, bound * den) for sign, row, bound in branches.good_rows()]
-    for at, number in enumerate(numbers):
-        unit = tuple([1 if other == at else 0 for other in range(len(stand))])
-        rows.append(("=", branches.goal(unit), number))
-    found = solved(tuple(rows), (0,) * branches.many)
-    if found[0] == "none":
-        return None
-    return branches.stands([fraction(number[0], number[1] * den) for number in found[2]])
+    found = forked(book, stand, MOST_BRANCHES if len(book[0][1]) <= MOST_GROUPS else 2)
+    return None if found is None else branched(found[0], found[1])
 
 
 def branched(base, stands):
