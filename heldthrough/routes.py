@@ -4,16 +4,17 @@ from heldthrough.chains import way_to
 from heldthrough.directions import inner
 from heldthrough.drift import room
 from heldthrough.fractions import added, is_less, multiple, nought
-from heldthrough.frames import added_places, places_of
+from heldthrough.frames import added_places
 from heldthrough.growth import grown_tree
 from heldthrough.limits import sides_of
 from heldthrough.programs import solved
 from heldthrough.roving import Ground, shares_in
-from heldthrough.spaces import cleared, kept_at, space_of, sum_by, sum_of_products
-from heldthrough.strides import MOST_DEEDS
+from heldthrough.spaces import cleared, kept_at, lies_in, rounded, space_of, sum_by, sum_of_products
+from heldthrough.strides import MOST_DEEDS, free_places
 from heldthrough.trees import Story, leaf, size_of
 
 MOST_EASED = 3
+FINE_BITS = 80
 
 
 def route(book, stand):
@@ -84,43 +85,53 @@ def eased(ground, goal, moves):
             space, lots = wider, lots + [move.lot]
     if space == ():
         return None
+    frees = [free_places(ground.frame, lot) for lot in lots]
+    many = sum([len(free) for free in frees])
     *numbers, den = cleared((*goal, (1, 1)))
-    rows = over_rows(ground, space, numbers, den, len(lots))
-    for at, lot in enumerate(lots):
-        rows = rows + lot_rows(ground, space, numbers, den, (at, len(lots), lot))
-    last = (0,) * (len(space) + ground.many * len(lots)) + (-1,)
+    rows = over_rows(ground, space, numbers, den, many)
+    ahead = 0
+    for free in frees:
+        rows = rows + lot_rows(ground, space, numbers, den, (ahead, free, many - ahead - len(free)))
+        ahead += len(free)
+    last = (0,) * (len(space) + many) + (-1,)
     found = solved((*rows, ("<=", last, 0)), last)
     # A little of the goal lets all LOTS fit that it fits.
-    return sum_by(multiple((31, 32 * den), found[2]), space, goal)
+    shares = multiple((31, 32 * den), found[2][:len(space)])
+    return sum_by(shortened(shares, space) if lies_in(space, ground.flat) else shares, space, goal)
+
+
+def shortened(shares, space):
+    """Return the list of shares of the members of a SPACE that are very near to some others, but shorter."""
+    sizes = [max([abs(number) for number in row]) for row in space]
+    # One part of any member is little, as the greatest change by one of them goes.
+    parts = [max(sizes) * den // (size * abs(num)) for size, (num, den) in zip(sizes, shares) if num != 0]
+    return rounded(shares, (min(parts, default=0) + 1) << FINE_BITS)
 
 
 def over_rows(ground, space, numbers, den, many):
     """Return the list of rows by which a STAND goes beyond no bound by more than the last unknown.
 
     The first unknowns are shares of the members of a SPACE that are added to the STAND, multiplied by den;
-    behind them the cells of so many other STANDS are unknown.
+    behind them so many cells of other STANDS are unknown.
     """
     rows = []
     for rule in ground.source[1]:
         for reading, bound in sides_of(rule):
             along = tuple([sum_of_products(reading, row) for row in space])
-            left = bound * den - sum_of_products(reading, numbers)
-            rows.append(("<=", along + (0,) * (ground.many * many) + (-1,), left))
+            rows.append(("<=", along + (0,) * many + (-1,), bound * den - sum_of_products(reading, numbers)))
     return rows
 
 
 def lot_rows(ground, space, numbers, den, which):
-    """Return the list of rows by which one of the other STANDS is GOOD, and is as the STAND in the groups of a LOT.
+    """Return the list of rows by which another STAND is GOOD that is as the STAND in all cells but the free ones.
 
-    Which it is tells a tuple: its index, how many others there are, and the LOT.
+    Which it is tells a tuple: how many unknown cells are ahead, the free places, how many are behind.
     """
-    at, many, lot = which
-    ahead, behind = ground.many * at, ground.many * (many - 1 - at) + 1
+    ahead, free, behind = which
     rows = []
     for sign, reading, bound in ground.source[1]:
-        rows.append((sign, (0,) * (len(space) + ahead) + reading + (0,) * behind, bound * den))
-    for place in places_of(ground.frame, lot):
-        unit = tuple([1 if other == place else 0 for other in range(ground.many)])
-        along = tuple([-row[place] for row in space])
-        rows.append(("=", along + (0,) * ahead + unit + (0,) * behind, numbers[place]))
+        own = [0 if place in free else number for place, number in enumerate(reading)]
+        along = tuple([sum_of_products(own, row) for row in space]) + (0,) * ahead
+        left = bound * den - sum_of_products(own, numbers)
+        rows.append((sign, along + tuple([reading[place] for place in free]) + (0,) * (behind + 1), left))
     return rows
