@@ -22,7 +22,8 @@ class Fork:
     def __init__(self, book, stand, lots, idle):
         self.source = book
         self.end = stand
-        *self.numbers, self.den = cleared((*stand, (1, 1)))
+        *numbers, self.den = cleared((*stand, (1, 1)))
+        self.numbers = numbers
         self.added = added_places(book[0])
         self.own = [places_of(book[0], lot) for lot in lots] + ([()] if idle else [])
         self.last = len(self.own) - 1
